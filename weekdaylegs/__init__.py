@@ -1,0 +1,1 @@
+"""Weekdaylegs: diaries that note weekdays only."""
