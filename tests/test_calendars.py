@@ -1,13 +1,38 @@
 """Point 12: calendars of a diary."""
 
+import random
+import sys
 import unittest
 
 from tests.helpers import LONG, Odd, ProgramTestCase, no_integers, other_values, odd_tuples, tower
+from tests.samples import large_diaries, random_diary
 from weekdaylegs.diaries import Diary, check_calendar, is_calendar
 from weekdaylegs.errors import InvalidDays
 
 DIARY = Diary(7, (1, None, 0), ((0, 1, 3), (1, 2, 4), (2, 0, -6)))
 FORM = {"part": "form", "item": None}
+
+
+def fault_of(diary, days):
+    """Return the part and the item of what is first wrong with so many integers, or None."""
+    for event, weekday in enumerate(diary.weekdays):
+        if weekday not in (None, days[event] % diary.modulus):
+            return "weekday", event
+    for item, (first, last, most) in enumerate(diary.bounds):
+        if days[last] > days[first] + most:
+            return "bound", item
+    return None
+
+
+def calls_of(call, *args):
+    """Return how many functions of Python are entered while this one is called."""
+    entered = []
+    sys.setprofile(lambda frame, event, _: entered.append(frame) if event == "call" else None)
+    try:
+        call(*args)
+    finally:
+        sys.setprofile(None)
+    return len(entered)
 
 
 class CalendarTest(ProgramTestCase):
@@ -79,6 +104,43 @@ class CalendarTest(ProgramTestCase):
             for second in range(-6, 7):
                 wanted = first % 3 == 2 and abs(second - first) <= 1
                 self.assertIs(is_calendar(diary, (first, second)), wanted)
+
+    def test_days_of_any_diaries(self):
+        source = random.Random(91)
+        parts = {}
+        for _ in range(4000):
+            events, modulus = source.choice((1, 2, 16)), source.choice((2, 7, 100))
+            diary = random_diary(source, modulus, events, source.choice((0, 3, 60)), source.choice((5, 300)))
+            days = [source.randint(-200, 200) for _ in range(events)]
+            for event, weekday in enumerate(diary.weekdays):
+                if weekday is not None and source.random() < 0.97:
+                    days[event] += (weekday - days[event]) % modulus
+            fault = fault_of(diary, days)
+            if fault is None:
+                self.assert_calendar(diary, tuple(days))
+            else:
+                self.assert_no_calendar(*fault, diary, tuple(days))
+            part = None if fault is None else fault[0]
+            parts[part] = parts.get(part, 0) + 1
+        self.assertGreater(min(parts.values()), 150)
+        self.assertEqual(len(parts), 3)
+
+    def test_known_calendars_with_one_wrong_day(self):
+        source = random.Random(92)
+        for diary, days in large_diaries(source, 300):
+            self.assert_calendar(diary, days)
+            wrong = list(days)
+            wrong[source.randrange(len(days))] += source.choice((1, -1, diary.modulus, -diary.modulus, 10 ** 9))
+            fault = fault_of(diary, wrong)
+            if fault is not None:
+                self.assert_no_calendar(*fault, diary, tuple(wrong))
+
+    def test_many_events_are_checked_without_many_calls(self):
+        # Calendars are asked for very often: a few calls for each event would take most of the time.
+        for weekday in (0, None):
+            diary = Diary(7, (weekday,) * 16, ((0, 1, 5),) * 48)
+            self.assertLess(calls_of(is_calendar, diary, (0,) * 16), 50)
+            self.assertLess(calls_of(check_calendar, diary, (0,) * 16), 50)
 
     def test_arguments_stay_as_they_were(self):
         days = [1, 4, 7]

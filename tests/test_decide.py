@@ -1,63 +1,15 @@
 """Points 12 to 15, 20 and 21: decisions."""
 
-import itertools
 import random
 import unittest
 
 from tests.helpers import ProgramTestCase
+from tests.samples import diary_of_days, has_negative_loop, is_possible, random_diary
 from weekdaylegs.decisions import check_decision, decide, has_calendar
 from weekdaylegs.diaries import Diary, is_calendar
 from weekdaylegs.legs import Leg, Loop
 
 DAYS = 10 ** 9
-
-
-def is_bounded(events, bounds):
-    """Tell whether days for these bounds alone exist, by lowering them again and again."""
-    days = dict.fromkeys(events, 0)
-    for _ in range(len(days) + 1):
-        lowered = False
-        for first, last, most in bounds:
-            if days[last] > days[first] + most:
-                days[last] = days[first] + most
-                lowered = True
-        if not lowered:
-            return True
-    return False
-
-
-def has_negative_loop(diary):
-    """Tell whether the bounds between undated events alone contradict each other."""
-    undated = [event for event, weekday in enumerate(diary.weekdays) if weekday is None]
-    bounds = [bound for bound in diary.bounds if bound[0] in undated and bound[1] in undated]
-    return not is_bounded(undated, bounds)
-
-
-def is_possible(diary):
-    """Tell whether there is a calendar, by all ways to give weekdays to undated events."""
-    choices = [range(diary.modulus) if weekday is None else [weekday] for weekday in diary.weekdays]
-    for noted in itertools.product(*choices):
-        tight = [(a, b, w - (w - noted[b] + noted[a]) % diary.modulus) for a, b, w in diary.bounds]
-        if is_bounded(range(len(noted)), tight):
-            return True
-    return False
-
-
-def random_diary(source, modulus, events, many, reach):
-    """Return a diary with any weekdays and bounds."""
-    share = source.random()
-    noted = tuple(source.randrange(modulus) if source.random() < share else None for _ in range(events))
-    pairs = [(source.randrange(events), source.randrange(events)) for _ in range(many)]
-    return Diary(modulus, noted, tuple((a, b, source.randint(-reach, reach + 2)) for a, b in pairs))
-
-
-def diary_of_days(source, modulus, days, many, slack):
-    """Return a diary with these days as a calendar, and with bounds looser by up to slack."""
-    share = source.random()
-    noted = tuple(day % modulus if source.random() < share else None for day in days)
-    pairs = [(source.randrange(len(days)), source.randrange(len(days))) for _ in range(many)]
-    bounds = [(a, b, days[b] - days[a] + source.randint(0, slack)) for a, b in pairs]
-    return Diary(modulus, noted, tuple(bounds))
 
 
 class DecideTestCase(ProgramTestCase):

@@ -14,8 +14,19 @@ FIELDS = {
     "InvalidNumber": ("value",),
     "InvalidAnswer": ("part",),
     "NoCalendar": ("reason",),
+    "InvalidWindow": ("part",),
+    "InvalidRank": ("value",),
+    "LimitExceeded": ("limit",),
+    "Mismatch": ("part", "spot"),
+    "NothingToUndo": (),
+    "ParseError": ("line", "word"),
 }
 OPTIONAL = ("item", "spot")
+
+
+def made(name, value):
+    """Return the error of this name with this value in all of its fields."""
+    return getattr(errors, name)(*[value] * len(FIELDS[name]))
 
 
 class ErrorsTest(ProgramTestCase):
@@ -49,21 +60,28 @@ class ErrorsTest(ProgramTestCase):
         self.assertIsNone(errors.InvalidDiary("modulus").item)
         self.assertIsNone(errors.InvalidDays("form").item)
         self.assertIsNone(errors.InvalidWalk().spot)
+        self.assertIsNone(errors.Mismatch("modulus").spot)
 
     def test_other_parameters_are_needed(self):
-        for name in FIELDS:
-            if name != "InvalidWalk":
+        for name, fields in FIELDS.items():
+            if any(field not in OPTIONAL for field in fields):
                 with self.assertRaises(TypeError):
                     getattr(errors, name)()
+            with self.assertRaises(TypeError):
+                getattr(errors, name)(*[0] * (len(fields) + 1))
+
+    def test_there_are_no_other_errors(self):
+        found = [name for name, kind in vars(errors).items() if inspect.isclass(kind)]
+        self.assertEqual(sorted(found), sorted([*FIELDS, "WeekdaylegsError"]))
 
     def test_message_ends_for_values_with_very_many_parts(self):
         for name in FIELDS:
-            self.assertLess(len(str(getattr(errors, name)(tower(())))), 100)
+            self.assertLess(len(str(made(name, tower(())))), 100)
 
     def test_raised_errors_are_caught_by_the_base_class(self):
         for name in FIELDS:
             with self.assertRaises(errors.WeekdaylegsError):
-                raise getattr(errors, name)("x")
+                raise made(name, "x")
 
 
 if __name__ == "__main__":

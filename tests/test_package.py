@@ -6,11 +6,28 @@ import pathlib
 import unittest
 
 import weekdaylegs
-from weekdaylegs import decisions, diaries, errors, legs
+from weekdaylegs import certainty, corrections, decisions, diaries, errors, gaps, legs, windows
 
 FUNCTIONS = {
     diaries: {"check_calendar": "(diary, days)", "is_calendar": "(diary, days)"},
     decisions: {"has_calendar": "(diary)", "decide": "(diary)", "check_decision": "(diary, answer)"},
+    gaps: {
+        "greatest_gap": "(diary, first, second)",
+        "least_gap": "(diary, first, second)",
+        "check_greatest": "(diary, first, second, answer)",
+        "check_least": "(diary, first, second, answer)",
+        "weekday_range": "(diary, first, second, weekday)",
+        "is_possible_gap": "(diary, first, second, days)",
+        "possible_gaps": "(diary, first, second, *, start=0, many=10)",
+    },
+    certainty: {"sure_gaps": "(diary, first)", "possible_weekdays": "(diary, event)"},
+    corrections: {"corrections": "(diary)", "removals": "(diary)"},
+    windows: {
+        "calendars": "(diary, low, high, *, start=0)",
+        "count_calendars": "(diary, low, high)",
+        "calendar_by_rank": "(diary, low, high, rank)",
+        "rank_of": "(diary, low, high, days)",
+    },
 }
 METHODS = {
     diaries.Diary: {
@@ -48,7 +65,8 @@ PROPERTIES = {
 }
 CLASSES = {
     errors: ("WeekdaylegsError", "InvalidDiary", "InvalidEvent", "InvalidDays", "InvalidWalk", "InvalidNumber",
-             "InvalidAnswer", "NoCalendar"),
+             "InvalidAnswer", "NoCalendar", "InvalidWindow", "InvalidRank", "LimitExceeded", "Mismatch", "NothingToUndo",
+             "ParseError"),
     diaries: ("Diary", "Event", "DatedEvent", "UndatedEvent"),
     legs: ("Walk", "Leg", "Loop"),
 }

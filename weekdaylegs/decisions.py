@@ -1,7 +1,7 @@
 """Decisions: a calendar of a diary, or a short reason why there is none."""
 
 from weekdaylegs.diaries import is_calendar, is_tuple_of
-from weekdaylegs.errors import InvalidAnswer, InvalidWalk
+from weekdaylegs.errors import InvalidAnswer, InvalidWalk, NoCalendar
 from weekdaylegs.legs import Leg, Loop
 from weekdaylegs.routes import bound_routes, join_routes, leg_routes
 
@@ -23,6 +23,14 @@ def decide(diary):
     if ring is not None:
         return "ring", ring
     return "calendar", lowered_days(diary)
+
+
+def need_calendar(diary):
+    """Return a calendar of the diary, and raise NoCalendar if there is none."""
+    kind, reason = decide(diary)
+    if kind != "calendar":
+        raise NoCalendar((kind, reason))
+    return reason
 
 
 def lowered_days(diary):
@@ -82,8 +90,6 @@ def is_negative_loop(diary, numbers):
 
 def is_negative_ring(diary, rows):
     """Tell whether a value is a ring with a negative sum of lengths."""
-    if not isinstance(rows, tuple):
-        return False
     legs = legs_of(diary, rows)
     if legs is None or not is_round(legs):
         return False
@@ -91,7 +97,9 @@ def is_negative_ring(diary, rows):
 
 
 def legs_of(diary, rows):
-    """Return the legs whose numbers these rows are, or None if one of them is no leg."""
+    """Return the legs whose numbers are in this tuple, or None if it is no tuple of legs."""
+    if not isinstance(rows, tuple):
+        return None
     legs = []
     for row in rows:
         if not isinstance(row, tuple):

@@ -238,19 +238,38 @@ class Diary:
 
 def is_days(diary, value):
     """Tell whether a value is a tuple with an integer for each event."""
-    return is_tuple_of(value, len(diary), len(diary)) and all([is_number(day) for day in value])
+    many = len(diary)
+    return is_tuple_of(value, many, many) and all([is_number(day) for day in value])
+
+
+def weekday_fault(diary, days):
+    """Return the first event whose day does not have its weekday, or None."""
+    # Calendars are asked for often: objects of all events would take most of the time.
+    modulus = diary.modulus
+    for event, weekday in enumerate(diary.weekdays):
+        if weekday is not None and days[event] % modulus != weekday:
+            return event
+    return None
+
+
+def bound_fault(diary, days):
+    """Return the number of the first bound that does not hold, or None."""
+    for item, (first, last, most) in enumerate(diary.bounds):
+        if days[last] - days[first] > most:
+            return item
+    return None
 
 
 def days_fault(diary, days):
     """Return the part and the item of what is first wrong with a calendar, or None."""
     if not is_days(diary, days):
         return "form", None
-    for event in diary.events():
-        if not event.fits(days[event.number]):
-            return "weekday", event.number
-    for item, (first, last, most) in enumerate(diary.bounds):
-        if days[last] - days[first] > most:
-            return "bound", item
+    event = weekday_fault(diary, days)
+    if event is not None:
+        return "weekday", event
+    number = bound_fault(diary, days)
+    if number is not None:
+        return "bound", number
     return None
 
 

@@ -65,3 +65,52 @@ class NoCalendar(WeekdaylegsError):
     def __init__(self, reason):
         super().__init__("the diary has no calendar")
         self.reason = reason
+
+
+class InvalidWindow(WeekdaylegsError):
+    """An end of a window is wrong."""
+
+    def __init__(self, part):
+        super().__init__("this is not a window")
+        self.part = part
+
+
+class InvalidRank(WeekdaylegsError):
+    """A value is not the number of a calendar."""
+
+    def __init__(self, value):
+        super().__init__("this is not the number of a calendar in the window")
+        self.value = value
+
+
+class LimitExceeded(WeekdaylegsError):
+    """There are more things than the limit allows."""
+
+    def __init__(self, limit):
+        super().__init__("there are more than the limit allows")
+        self.limit = limit
+
+
+class Mismatch(WeekdaylegsError):
+    """Two diaries cannot be joined."""
+
+    def __init__(self, part, spot=None):
+        super().__init__("these diaries cannot be joined in this way")
+        self.part = part
+        self.spot = spot
+
+
+class NothingToUndo(WeekdaylegsError):
+    """There is no change that could be undone."""
+
+    def __init__(self):
+        super().__init__("there is no change to undo")
+
+
+class ParseError(WeekdaylegsError):
+    """A text is not the text of a diary."""
+
+    def __init__(self, line, word):
+        super().__init__("this is not the text of a diary")
+        self.line = line
+        self.word = word
