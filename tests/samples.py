@@ -41,6 +41,16 @@ def is_possible(diary):
     return False
 
 
+def all_days(diary, low, high):
+    """Return all calendars among all days from low to high."""
+    found = []
+    for days in itertools.product(range(low, high + 1), repeat=len(diary)):
+        fits = all(noted is None or day % diary.modulus == noted for day, noted in zip(days, diary.weekdays))
+        if fits and all(days[b] - days[a] <= w for a, b, w in diary.bounds):
+            found.append(days)
+    return found
+
+
 def random_diary(source, modulus, events, many, reach):
     """Return a diary with any weekdays and bounds."""
     share = source.random()

@@ -6,7 +6,9 @@ import pathlib
 import unittest
 
 import weekdaylegs
-from weekdaylegs import certainty, corrections, decisions, diaries, errors, gaps, legs, windows
+from weekdaylegs import (
+    certainty, console, corrections, decisions, diaries, errors, gaps, joining, legs, live, texts, windows,
+)
 
 FUNCTIONS = {
     diaries: {"check_calendar": "(diary, days)", "is_calendar": "(diary, days)"},
@@ -28,6 +30,8 @@ FUNCTIONS = {
         "calendar_by_rank": "(diary, low, high, rank)",
         "rank_of": "(diary, low, high, days)",
     },
+    joining: {"joined": "(one, other, *pairs)"},
+    texts: {"diary_text": "(diary)", "read_diary": "(text)"},
 }
 METHODS = {
     diaries.Diary: {
@@ -56,12 +60,31 @@ METHODS = {
     },
     legs.Leg: {"__init__": "(self, diary, *numbers)", "most": "(self)"},
     legs.Loop: {"__init__": "(self, diary, *numbers)"},
+    live.LiveDiary: {
+        "__init__": "(self, diary)",
+        "__len__": "(self)",
+        "__eq__": "(self, other)",
+        "tell": "(self, first, second, *, least=None, most=None)",
+        "note": "(self, event, weekday)",
+        "would": "(self, *bounds)",
+        "undo": "(self)",
+        "diaries": "(self)",
+        "copy": "(self)",
+    },
+    live.CarefulDiary: {
+        "__init__": "(self, diary)",
+        "tell": "(self, first, second, *, least=None, most=None)",
+        "note": "(self, event, weekday)",
+        "copy": "(self)",
+    },
+    console.Console: {"__init__": "(self)", "run": "(self, command)"},
 }
 PROPERTIES = {
     diaries.Diary: ("modulus", "weekdays", "bounds"),
     diaries.Event: ("number",),
     diaries.DatedEvent: ("weekday",),
     legs.Walk: ("diary", "numbers", "stops", "total"),
+    live.LiveDiary: ("diary", "is_possible", "log"),
 }
 CLASSES = {
     errors: ("WeekdaylegsError", "InvalidDiary", "InvalidEvent", "InvalidDays", "InvalidWalk", "InvalidNumber",
@@ -69,6 +92,8 @@ CLASSES = {
              "ParseError"),
     diaries: ("Diary", "Event", "DatedEvent", "UndatedEvent"),
     legs: ("Walk", "Leg", "Loop"),
+    live: ("LiveDiary", "CarefulDiary"),
+    console: ("Console",),
 }
 
 

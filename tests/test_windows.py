@@ -6,7 +6,7 @@ import types
 import unittest
 
 from tests.helpers import LONG, Odd, ProgramTestCase, no_integers, other_values, odd_tuples, tower
-from tests.samples import diary_of_days, large_diaries, random_diary, small_diary
+from tests.samples import all_days, diary_of_days, large_diaries, random_diary, small_diary
 from weekdaylegs import windows
 from weekdaylegs.diaries import Diary, check_calendar, is_calendar
 from weekdaylegs.errors import InvalidDays, InvalidRank, InvalidWindow, LimitExceeded
@@ -23,16 +23,6 @@ def listed(*args, **named):
 
 def first_one(*args, **named):
     return next(calendars(*args, **named))
-
-
-def all_days(diary, low, high):
-    """Return all calendars among all days from low to high."""
-    found = []
-    for days in itertools.product(range(low, high + 1), repeat=len(diary)):
-        fits = all(noted is None or day % diary.modulus == noted for day, noted in zip(days, diary.weekdays))
-        if fits and all(days[b] - days[a] <= w for a, b, w in diary.bounds):
-            found.append(days)
-    return found
 
 
 class WindowTestCase(ProgramTestCase):
