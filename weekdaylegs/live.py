@@ -69,8 +69,8 @@ class LiveDiary:
 
     def copy(self):
         """Return an equal live diary, which changes on its own from now on."""
-        twin = LiveDiary(self._states[0][0])
-        self._repeat_on(twin)
+        twin = LiveDiary(self.diary)
+        self._share_past(twin)
         return twin
 
     def _change(self, diary, change):
@@ -80,8 +80,8 @@ class LiveDiary:
         self._states.append((diary, has_calendar(diary)))
         self._changes.append(change)
 
-    def _repeat_on(self, twin):
-        """Repeat all changes on a live diary that began with the same diary and has not changed."""
+    def _share_past(self, twin):
+        """Give a twin, which begins with the current diary, all that came before."""
         twin._states = list(self._states)
         twin._changes = list(self._changes)
 
@@ -106,8 +106,8 @@ class CarefulDiary(LiveDiary):
 
     def copy(self):
         """Return an equal careful diary, which changes on its own from now on."""
-        twin = CarefulDiary(self._states[0][0])
-        self._repeat_on(twin)
+        twin = CarefulDiary(self.diary)
+        self._share_past(twin)
         return twin
 
     def _refuse_impossible(self):
