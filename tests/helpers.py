@@ -1,6 +1,7 @@
 """What several tests need."""
 
 import faulthandler
+import sys
 import unittest
 
 from weekdaylegs.diaries import Diary
@@ -47,6 +48,17 @@ def odd_tuples():
 def no_integers():
     """Return values that are no integers."""
     return [None] + other_values() + odd_tuples()
+
+
+def calls_of(call, *args):
+    """Return how many functions of Python are entered while this one is called."""
+    entered = []
+    sys.setprofile(lambda frame, event, _: entered.append(frame) if event == "call" else None)
+    try:
+        call(*args)
+    finally:
+        sys.setprofile(None)
+    return len(entered)
 
 
 class ProgramTestCase(unittest.TestCase):

@@ -1,10 +1,9 @@
 """Point 12: calendars of a diary."""
 
 import random
-import sys
 import unittest
 
-from tests.helpers import LONG, Odd, ProgramTestCase, no_integers, other_values, odd_tuples, tower
+from tests.helpers import LONG, Odd, ProgramTestCase, calls_of, no_integers, other_values, odd_tuples, tower
 from tests.samples import large_diaries, random_diary
 from weekdaylegs.diaries import Diary, check_calendar, is_calendar
 from weekdaylegs.errors import InvalidDays
@@ -22,17 +21,6 @@ def fault_of(diary, days):
         if days[last] > days[first] + most:
             return "bound", item
     return None
-
-
-def calls_of(call, *args):
-    """Return how many functions of Python are entered while this one is called."""
-    entered = []
-    sys.setprofile(lambda frame, event, _: entered.append(frame) if event == "call" else None)
-    try:
-        call(*args)
-    finally:
-        sys.setprofile(None)
-    return len(entered)
 
 
 class CalendarTest(ProgramTestCase):

@@ -5,7 +5,7 @@ import random
 import types
 import unittest
 
-from tests.helpers import LONG, Odd, ProgramTestCase, no_integers, other_values, odd_tuples, tower
+from tests.helpers import LONG, Odd, ProgramTestCase, calls_of, no_integers, other_values, odd_tuples, tower
 from tests.samples import all_days, diary_of_days, large_diaries, random_diary, small_diary
 from weekdaylegs import windows
 from weekdaylegs.diaries import Diary, check_calendar, is_calendar
@@ -130,6 +130,94 @@ class ListTest(WindowTestCase):
             if len(wanted) <= 1000:
                 moved = [tuple(day + far for day in days) for days in wanted]
                 self.assert_window(diary, far, far + 5, moved)
+
+
+class OrderTest(WindowTestCase):
+    """Diaries in which the order of the events is not the one in which their days depend on each other."""
+
+    def test_events_that_follow_another_one(self):
+        same = ((0, 2, 0), (2, 0, 0), (1, 2, 0), (2, 1, 0))
+        for weekdays in itertools.product((None, 3), repeat=3):
+            days = range(-100, 101) if weekdays == (None,) * 3 else range(-95, 101, 7)
+            self.assert_window(Diary(7, weekdays, same), -100, 100, [(day,) * 3 for day in days])
+        apart = ((0, 1, -5), (1, 0, 5), (2, 0, 9), (0, 2, -9))
+        for weekdays in ((None, None, None), (6, 1, 4), (6, None, None), (None, 1, None), (None, None, 4), (None, 1, 4)):
+            days = range(9, 201) if weekdays == (None,) * 3 else range(13, 201, 7)
+            self.assert_window(Diary(7, weekdays, apart), 0, 200, [(day, day - 5, day - 9) for day in days])
+        self.assert_window(Diary(7, (6, 2, None), apart), 0, 200, [])
+
+    def test_events_held_by_the_window(self):
+        self.assert_window(Diary(100, (7, None, 99), ((0, 1, 0), (2, 1, -92))), 0, 99, [(7, day, 99) for day in range(8)])
+        self.assert_window(Diary(100, (None, 7, None), ((0, 1, 0), (1, 2, 0))), 0, 99, sorted(
+            (first, 7, last) for first in range(7, 100) for last in range(8)))
+
+    def test_undated_events_ahead_of_dated_ones(self):
+        diary = Diary(10, (None, None, 4, 8), ((2, 0, 1), (0, 2, 1), (3, 1, 0), (1, 3, 1)))
+        near = [(a + d, b + e, a, b) for a in range(4, 60, 10) for b in range(8, 60, 10) for d in (-1, 0, 1) for e in (-1, 0)]
+        self.assert_window(diary, 0, 59, sorted(near))
+        near = [days for days in near if days[1] - days[0] <= -3]
+        self.assert_window(diary.adding((0, 1, -3)), 0, 59, sorted(near))
+
+    def test_one_and_two_events_in_wide_windows(self):
+        source = random.Random(76)
+        sizes = []
+        for _ in range(80):
+            days = [source.randint(0, 60) for _ in range(source.choice((1, 2, 2, 2)))]
+            diary = diary_of_days(source, source.choice((2, 7, 30)), days, source.randint(1, 3), source.choice((2, 9, 40)))
+            wanted = all_days(diary, -3, 63)
+            sizes.append(len(wanted))
+            if len(wanted) <= 1000:
+                self.assert_window(diary, -3, 63, wanted)
+            else:
+                self.assert_refused(diary, -3, 63)
+        self.assertGreater(len([size for size in sizes if 100 <= size <= 1000]), 10)
+
+    def test_three_and_more_events(self):
+        source = random.Random(77)
+        sizes = []
+        for _ in range(60):
+            many, last = source.choice(((3, 13), (4, 7), (5, 4), (6, 3)))
+            days = [source.randint(0, last) for _ in range(many)]
+            diary = diary_of_days(source, source.choice((2, 3, 7)), days, source.randint(2, 9), source.choice((0, 1, 3)))
+            wanted = all_days(diary, 0, last)
+            sizes.append(len(wanted))
+            if len(wanted) <= 1000:
+                self.assert_window(diary, 0, last, wanted)
+            else:
+                self.assert_refused(diary, 0, last)
+        self.assertGreater(len([size for size in sizes if 100 <= size <= 1000]), 10)
+
+
+class TimeTest(WindowTestCase):
+    """Windows with many calendars are counted and refused without a call of a function for each calendar."""
+
+    SAME = Diary.of(7, None, None, None).adding((0, 2, 0), (2, 0, 0), (1, 2, 0), (2, 1, 0))
+
+    def test_counted(self):
+        for diary, high, many in ((Diary.of(7, None), 999, 1000), (Diary.of(7, None, None), 30, 961), (self.SAME, 999, 1000)):
+            self.assertEqual(count_calendars(diary, 0, high), many)
+            self.assertLess(calls_of(count_calendars, diary, 0, high), many / 4)
+
+    def test_listed(self):
+        for diary, high, many in ((Diary.of(7, None), 999, 1000), (Diary.of(7, None, None), 30, 961), (self.SAME, 999, 1000)):
+            days = (high // 2,) * len(diary)
+            # Each calendar that is yielded is a call of its own.
+            self.assertLess(calls_of(listed, diary, 0, high), many * 2.5)
+            self.assertLess(calls_of(calendar_by_rank, diary, 0, high, many // 2), many * 1.5)
+            self.assertLess(calls_of(rank_of, diary, 0, high, days), many * 1.5)
+
+    def test_refused(self):
+        free = [(Diary.of(7, *(None,) * many), high) for many, high in ((1, 1000), (2, 31), (3, 500))]
+        for diary, high in free + [(self.SAME, 1000)]:
+            self.assert_refused(diary, 0, high)
+            for call, *more in ((count_calendars,), (listed,), (first_one,), (calendar_by_rank, 0), (rank_of, (0,))):
+                self.assertLess(calls_of(self.refused, call, diary, 0, high, *more), 250)
+
+    def refused(self, call, *args):
+        try:
+            call(*args)
+        except LimitExceeded:
+            pass
 
 
 class LimitTest(WindowTestCase):
